@@ -1,0 +1,1 @@
+"""Fewfolds: square tables by a prime made of few special ones, with the factors or with a bar."""
