@@ -48,3 +48,8 @@ def is_poly_by(p, thing):
     if not are_numbers(p, thing) or len(thing) > MOST_POLY_NUMBERS:
         return False
     return thing == () or thing[-1] != 0
+
+
+def is_certificate(thing, word, size):
+    """Whether a value is a tuple of just this size whose first item is the word."""
+    return isinstance(thing, tuple) and len(thing) == size and thing[0] == word

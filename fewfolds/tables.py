@@ -27,8 +27,13 @@ def check_fellows(first, second):
     """Raise BadTable with the first value that is no table, and OtherTable if the two are no fellows."""
     check_table(first)
     check_table(second)
-    if first[0] != second[0] or len(first[1]) != len(second[1]):
+    if not is_fellow(first, second):
         raise OtherTable(second)
+
+
+def is_fellow(table, thing):
+    """Whether a value is a fellow of a table."""
+    return is_table(thing) and thing[0] == table[0] and len(thing[1]) == len(table[1])
 
 
 def check_size(p, n):

@@ -6,7 +6,7 @@ from support import outcome
 
 import fewfolds.errors
 
-# Copied from the parts 1 and 2; of part 2, what speaks of fewfolds/polys.py.
+# Copied from the parts 1 to 5, one after another.
 TABLES = r"""
 >>> from fewfolds.tables import added, determinant, diagonal_sum, is_table, led, mirror, one, power, product, rank, read_table, text_of, times, turned, undone
 >>> A = (5, ((1, 2), (3, 4)))
@@ -20,11 +20,46 @@ raises BadText(3)
 >>> product(A, (5, ((1,),)))
 raises OtherTable((5, ((1,),)))
 """
-POLYS = r"""
+PARTS = r"""
 >>> from fewfolds.polys import at_table, is_prime_poly, least_poly, poly_factors, poly_product, whole_poly
+>>> from fewfolds.parts import alike_holds, are_alike, companion, judge_alike, parts_of, plain_form
 >>> A = (5, ((1, 2), (3, 4)))
 >>> [whole_poly(A), least_poly(A), poly_product(5, (1, 1), (4, 1)), poly_factors(5, (3, 0, 1)), is_prime_poly(5, (3, 0, 1)), is_prime_poly(2, (1, 0, 1)), at_table((3, 0, 1), A)]
 [(3, 0, 1), (3, 0, 1), (4, 0, 1), (((3, 0, 1), 1),), True, False, (5, ((0, 0), (0, 0)))]
+>>> [parts_of(A), plain_form(A), parts_of((2, ((1, 1), (0, 1)))), parts_of((3, ((2, 0), (0, 2)))), companion(2, (1, 1, 1))]
+[(((3, 0, 1), (1,)),), (5, ((0, 1), (2, 0))), (((1, 1), (2,)),), (((1, 1), (1, 1)),), (2, ((0, 1), (1, 1)))]
+>>> [are_alike((2, ((1, 1), (0, 1))), (2, ((1, 0), (1, 1)))), judge_alike((2, ((1, 1), (0, 1))), (2, ((1, 0), (0, 1)))), alike_holds(A, plain_form(A), ('alike', (5, ((1, 0), (1, 2)))))]
+[True, ('ranks', (1, 1), 1), True]
+"""
+GOINGS = r"""
+>>> from fewfolds.goings import does_go_with, judge_poly, many_alike, poly_holds, room_of
+>>> FALL = (2, ((0, 1), (0, 0)))
+>>> [room_of(FALL), room_of((2, ((1, 0), (0, 1)))), many_alike(FALL), many_alike((2, ((1, 0), (0, 0)))), does_go_with(FALL, (2, ((1, 1), (0, 1))))]
+[2, 4, 3, 6, True]
+>>> [poly_holds(FALL, (2, ((1, 1), (0, 1))), ('poly', (1, 1))), judge_poly((2, ((1, 0), (0, 1))), FALL)[0]]
+[True, 'apart']
+"""
+FOLDS = r"""
+>>> from fewfolds.folds import fewest_folds, fold_with, folds_hold, is_fold, judge_folds, lost_by, lost_rows, moved_by, still_rows
+>>> FALL = (2, ((0, 1), (0, 0)))
+>>> P, Q = (2, ((1, 0), (0, 0))), (2, ((0, 1), (0, 1)))
+>>> [is_fold(P), is_fold(Q), is_fold(FALL), lost_by(FALL), moved_by(FALL), lost_rows(FALL), still_rows(Q), fold_with(2, ((0, 1),), ((1, 1),)) == Q]
+[True, True, False, 1, 2, ((0, 1),), ((0, 1),), True]
+>>> [fewest_folds(FALL), fewest_folds((2, ((1, 0), (0, 1)))), fewest_folds((3, ((2, 0), (0, 2)))), fewest_folds(P), folds_hold(FALL, 2, ('folds', (P, Q))), folds_hold(FALL, 1, ('bar', (0,), (0, 1))), folds_hold(FALL, 2, ('bar', (0,), (0, 1)))]
+[2, 0, None, 1, True, True, False]
+>>> judge_folds((2, ((1, 0), (0, 1))), 0)
+('folds', ())
+>>> fold_with(2, ((0, 1),), ((0, 1),))
+raises BadRow((((0, 1),), ((0, 1),)))
+"""
+FLIPS = r"""
+>>> from fewfolds.flips import four_hold, is_flip, judge_four, judge_two, turning_flip, two_hold
+>>> A, C = (5, ((1, 2), (3, 4))), (5, ((0, 1), (4, 0)))
+>>> S, T, ONE = (5, ((0, 1), (1, 0))), (5, ((4, 0), (0, 1))), (5, ((1, 0), (0, 1)))
+>>> [is_flip(S), is_flip(C), two_hold(C, ('flips', S, T)), two_hold(C, ('flips', T, S)), four_hold(C, ('flips', S, T, ONE, ONE)), judge_four(A), two_hold(A, ('apart', (3, 0, 1), 1)), turning_flip(A)]
+[True, False, True, False, True, ('determinant', 3), True, None]
+>>> [judge_two(A)[0], judge_two(C)[0], two_hold((2, ((0, 1), (0, 0))), ('lost', (0, 1))), judge_four((7, ((6,),)))[0]]
+['apart', 'flips', True, 'flips']
 """
 
 
@@ -58,8 +93,17 @@ class Examples(unittest.TestCase):
     def test_tables(self):
         self.assertEqual(run_examples(self, TABLES), 4)
 
-    def test_polys(self):
-        self.assertEqual(run_examples(self, POLYS), 1)
+    def test_polys_and_parts(self):
+        self.assertEqual(run_examples(self, PARTS), 3)
+
+    def test_goings(self):
+        self.assertEqual(run_examples(self, GOINGS), 2)
+
+    def test_folds(self):
+        self.assertEqual(run_examples(self, FOLDS), 4)
+
+    def test_flips(self):
+        self.assertEqual(run_examples(self, FLIPS), 2)
 
 
 if __name__ == "__main__":
