@@ -56,10 +56,15 @@ def blocks_of(table):
             for step, start in block_starts(poly, table, often)]
 
 
+def block_size(block):
+    """Return how many rows a block has."""
+    poly, step, _ = block
+    return (len(poly) - 1) * step
+
+
 def block_rows(p, rows, block):
     """Return the rows of a block, each led to the next one."""
-    poly, step, start = block
-    return orbit(p, start, rows, (len(poly) - 1) * step)
+    return orbit(p, block[2], rows, block_size(block))
 
 
 def base_of_blocks(p, rows, blocks):

@@ -17,6 +17,11 @@ def is_integer_within(thing, least, most):
     return is_integer(thing) and least <= thing and thing <= most
 
 
+def is_same_integer(thing, number):
+    """Whether a value is this integer: True is not 1."""
+    return is_integer(thing) and thing == number
+
+
 def is_prime(thing):
     """Whether a value is one of the four primes."""
     return is_integer(thing) and thing in PRIMES

@@ -1,10 +1,10 @@
 """Flips, and tables as products of two and of four flips."""
 
-from fewfolds.blocks import are_ranks_unlike, base_of_blocks, blocks_of, unlike_power
+from fewfolds.blocks import are_ranks_unlike, base_of_blocks, block_size, blocks_of, unlike_power
 from fewfolds.checks import is_certificate, is_number_by, is_row
 from fewfolds.divisors import made_monic
 from fewfolds.parts import parts_of
-from fewfolds.rows import inverse_of, row_times, unit_rows
+from fewfolds.rows import diagonal_rows, inverse_of, unit_rows
 from fewfolds.spaces import orbit, rows_leading, rows_lost
 from fewfolds.splits import is_number_times_one, told_factors
 from fewfolds.tables import check_table, determinant, is_fellow, led, product, undone
@@ -17,11 +17,12 @@ def is_flip(table):
     return product(table, table) == (p, unit_rows(len(rows)))
 
 
-def flip_through(table, back):
-    """Return a flip that turns a table, which is alike to its undoing, back, into it.
+def flip_through(table, other, partner_of):
+    """Return a flip that turns a table into another one, to which it is alike: its undoing, or its opposite.
 
-    It leads each block of a prime polynomial to the one at the same place of the polynomial whose roots are
-    the inverses of its roots, from start to start, and what the table leads on to what back leads on.
+    It leads each block of a prime polynomial to the one at the same place of the partner that partner_of tells
+    (its roots are the inverses, or the opposites, of the roots), from start to start, and what the table leads
+    on to what the other one leads on.
     """
     p, rows = table
     blocks = blocks_of(table)
@@ -30,11 +31,17 @@ def flip_through(table, back):
         starts.setdefault(poly, []).append(start)
     met = {poly: 0 for poly in starts}
     images = []
-    for poly, step, _ in blocks:
-        start = starts[made_monic(p, poly[::-1])][met[poly]]
+    for block in blocks:
+        poly = block[0]
+        start = starts[partner_of(p, poly)][met[poly]]
         met[poly] += 1
-        images.extend(orbit(p, start, back[1], (len(poly) - 1) * step))
+        images.extend(orbit(p, start, other[1], block_size(block)))
     return p, rows_leading(p, base_of_blocks(p, rows, blocks), images)
+
+
+def inverse_poly(p, poly):
+    """Return the prime polynomial whose roots are the inverses of the roots of one other than (0, 1)."""
+    return made_monic(p, poly[::-1])
 
 
 def turning_flip(table):
@@ -43,7 +50,7 @@ def turning_flip(table):
     back = undone(table)
     if back is None or parts_of(table) != parts_of(back):
         return None
-    return flip_through(table, back)
+    return flip_through(table, back, inverse_poly)
 
 
 def two_flips(table):
@@ -94,11 +101,6 @@ def two_hold(table, thing):
     return are_ranks_unlike(table, back, thing[1], thing[2])
 
 
-def diagonal(p, numbers):
-    """Return the table with these numbers on its diagonal, and 0 elsewhere."""
-    return p, tuple([row_times(p, unit, number) for unit, number in zip(unit_rows(len(numbers)), numbers)])
-
-
 def number_split(p, n, number):
     """Return two tables, each alike to its undoing, with number times 1 as their product.
 
@@ -110,7 +112,7 @@ def number_split(p, n, number):
     for _ in range(n - 1):
         evens.append(evens[-1] * square % p)
     odds = [number * inverse_of(p, even) % p for even in evens]
-    return diagonal(p, evens), diagonal(p, odds)
+    return (p, diagonal_rows(p, evens)), (p, diagonal_rows(p, odds))
 
 
 def turnable_factors(table, number):

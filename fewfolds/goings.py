@@ -1,7 +1,7 @@
 """What goes with a table: its room, its polynomials, and how many tables are alike to it."""
 
 from fewfolds.amounts import many_undoable, raised
-from fewfolds.blocks import base_of_blocks, block_rows, blocks_of, powers_at
+from fewfolds.blocks import base_of_blocks, block_size, blocks_of, powers_at
 from fewfolds.checks import is_certificate, is_poly_by
 from fewfolds.divisors import trimmed
 from fewfolds.parts import parts_of
@@ -36,11 +36,11 @@ def leadings(p, rows, block, other):
     """
     poly, step, _ = block
     _, far, start = other
-    degree = len(poly) - 1
+    size = block_size(block)
     shift = powers_at(poly, (p, rows), max(0, far - step))[-1]
-    most = degree * min(step, far)
-    reached = orbit(p, row_led(p, start, shift), rows, most + degree * step)
-    return [reached[k:k + degree * step] for k in range(most)]
+    most = min(size, block_size(other))
+    reached = orbit(p, row_led(p, start, shift), rows, most + size)
+    return [reached[k:k + size] for k in range(most)]
 
 
 def base_of_room(table):
@@ -53,7 +53,7 @@ def base_of_room(table):
     found = []
     before = 0
     for block in blocks:
-        size = len(block_rows(p, rows, block))
+        size = block_size(block)
         for other in blocks:
             if block[0] != other[0]:
                 continue

@@ -4,7 +4,7 @@ from fewfolds.blocks import are_ranks_unlike, base_of_blocks, blocks_of, steps_o
 from fewfolds.checks import MOST_ROWS, check_prime, is_certificate, is_integer_within, is_poly_by
 from fewfolds.errors import BadPoly
 from fewfolds.polys import poly_factors, poly_product, whole_poly
-from fewfolds.rows import row_times, unit_rows
+from fewfolds.rows import row_times, rows_along, unit_rows
 from fewfolds.tables import check_fellows, check_table, is_fellow, product, undone
 
 
@@ -34,15 +34,9 @@ def poly_power(p, poly, k):
 def plain_form(table):
     """Return the table to which a table is alike that has companions along its diagonal."""
     check_table(table)
-    p, rows = table
-    made = []
-    for poly, steps in parts_of(table):
-        for step in steps:
-            _, block = companion(p, poly_power(p, poly, step))
-            before = (0,) * len(made)
-            behind = (0,) * (len(rows) - len(made) - len(block))
-            made.extend([before + row + behind for row in block])
-    return p, tuple(made)
+    p, _ = table
+    powers = [poly_power(p, poly, step) for poly, steps in parts_of(table) for step in steps]
+    return p, rows_along([companion(p, poly)[1] for poly in powers])
 
 
 def plain_base(table):

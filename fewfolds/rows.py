@@ -29,6 +29,27 @@ def unit_rows(n):
     return tuple([tuple([1 if i == k else 0 for k in range(n)]) for i in range(n)])
 
 
+def diagonal_rows(p, numbers):
+    """Return the rows with these numbers on the diagonal, and 0 elsewhere."""
+    return tuple([row_times(p, unit, number) for unit, number in zip(unit_rows(len(numbers)), numbers)])
+
+
+def bordered_rows(corner, head, side, rows):
+    """Return rows with a number in the corner, head behind it, side below it, and square rows behind both."""
+    return ((corner,) + tuple(head),) + tuple([(number,) + row for number, row in zip(side, rows)])
+
+
+def rows_along(blocks):
+    """Return the rows that have these blocks, square rows, along the diagonal, and 0 elsewhere."""
+    size = sum([len(block) for block in blocks])
+    made = []
+    for block in blocks:
+        before = (0,) * len(made)
+        behind = (0,) * (size - len(made) - len(block))
+        made.extend([before + row + behind for row in block])
+    return tuple(made)
+
+
 def columns_of(rows):
     """Return the columns of rows, as rows."""
     return tuple([tuple(column) for column in zip(*rows)])

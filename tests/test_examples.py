@@ -6,7 +6,7 @@ from support import outcome
 
 import fewfolds.errors
 
-# Copied from the parts 1 to 5, one after another.
+# Copied from the document, one after another.
 TABLES = r"""
 >>> from fewfolds.tables import added, determinant, diagonal_sum, is_table, led, mirror, one, power, product, rank, read_table, text_of, times, turned, undone
 >>> A = (5, ((1, 2), (3, 4)))
@@ -61,6 +61,30 @@ FLIPS = r"""
 >>> [judge_two(A)[0], judge_two(C)[0], two_hold((2, ((0, 1), (0, 0))), ('lost', (0, 1))), judge_four((7, ((6,),)))[0]]
 ['apart', 'flips', True, 'flips']
 """
+EXCHANGES = r"""
+>>> from fewfolds.exchanges import exchange, exchange_holds, judge_exchange
+>>> [exchange((2, ((0, 1), (0, 0))), (2, ((0, 0), (1, 0)))), judge_exchange((3, ((1, 0), (0, 1)))), judge_exchange((3, ((0, 1), (1, 0))))[0], exchange_holds((2, ((1, 0), (0, 1))), ('exchange', (2, ((0, 1), (0, 0))), (2, ((0, 0), (1, 0)))))]
+[(2, ((1, 0), (0, 1))), ('sum', 2), 'exchange', True]
+"""
+TOLD = r"""
+>>> from fewfolds.told import diagonal_holds, factors_hold, is_number, judge_diagonal, judge_factors, judge_sum
+>>> A = (5, ((1, 2), (3, 4)))
+>>> [judge_diagonal(A, (2, 2)), judge_diagonal((5, ((2, 0), (0, 2))), (1, 3)), diagonal_holds(A, (0, 0), ('turned', (5, ((1, 0), (1, 2))))), is_number((3, ((2, 0), (0, 2))))]
+[('sum', 0), ('number', 2), True, True]
+>>> [judge_factors(A, (1, 1), (1, 1)), judge_factors(A, (1, 1), (1, 3))[0], factors_hold(A, (1, 2), (1, 4), ('factors', (5, ((1, 0), (3, 3))), (5, ((1, 2), (0, 1))))), judge_sum(A, (0, 0), (0, 1))]
+[('determinant', 3), 'factors', False, ('sum', 0)]
+>>> judge_factors(A, (0, 1), (1, 1))
+raises BadNumbers((0, 1))
+"""
+FALLERS = r"""
+>>> from fewfolds.fallers import at_once_holds, fallers_hold, is_faller, judge_at_once, judge_fallers
+>>> [is_faller((3, ((0, 2), (0, 0)))), judge_fallers((2, ((1, 0), (0, 1)))), judge_fallers((3, ((1, 0), (0, 0)))), fallers_hold((3, ((0, 2), (1, 0))), ('fallers', (3, ((0, 2), (0, 0))), (3, ((0, 0), (1, 0)))))]
+[True, ('number', 1), ('sum', 1), True]
+>>> [judge_at_once((3, ((1, 0), (0, 0))))[0], at_once_holds((3, ((0, 2), (1, 0))), ('at once', (3, ((0, 2), (0, 0))), (3, ((0, 0), (1, 0)))))]
+['apart', True]
+>>> judge_at_once((2, ((0,),)))
+raises BadPrime(2)
+"""
 
 
 def expected_outcome(line, names):
@@ -104,6 +128,15 @@ class Examples(unittest.TestCase):
 
     def test_flips(self):
         self.assertEqual(run_examples(self, FLIPS), 2)
+
+    def test_exchanges(self):
+        self.assertEqual(run_examples(self, EXCHANGES), 1)
+
+    def test_told(self):
+        self.assertEqual(run_examples(self, TOLD), 3)
+
+    def test_fallers(self):
+        self.assertEqual(run_examples(self, FALLERS), 3)
 
 
 if __name__ == "__main__":

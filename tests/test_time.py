@@ -5,17 +5,19 @@ import random
 import time
 import unittest
 
-from fewfolds import flips, folds, goings, parts
-from kinds import companion_of, free_table, kinds, turned_by
+from fewfolds import exchanges, fallers, flips, folds, goings, parts, told
+from kinds import companion_of, free_table, kinds, lost_of, plain_determinant_of, poly_to, turned_by
 from support import PRIMES, plain_one, plain_zero
+from words import sum_of
 
 # Far more than any call takes, in seconds of the processor.
 MOST = 2
 
 ONE = [parts.parts_of, parts.plain_form, parts.plain_base, goings.room_of, goings.base_of_room, goings.many_alike,
        folds.is_fold, folds.lost_by, folds.moved_by, folds.lost_rows, folds.still_rows, folds.fewest_folds,
-       flips.is_flip, flips.turning_flip, flips.judge_two, flips.judge_four]
-TWO = [parts.are_alike, parts.judge_alike, goings.does_go_with, goings.judge_poly]
+       flips.is_flip, flips.turning_flip, flips.judge_two, flips.judge_four, exchanges.judge_exchange,
+       told.is_number, fallers.is_faller, fallers.judge_fallers]
+TWO = [parts.are_alike, parts.judge_alike, goings.does_go_with, goings.judge_poly, exchanges.exchange]
 
 
 class Time(unittest.TestCase):
@@ -45,6 +47,28 @@ class Time(unittest.TestCase):
                 self.run_it(flips.two_hold, table, flips.judge_two(table))
                 self.run_it(flips.four_hold, table, flips.judge_four(table))
 
+    def test_told_numbers_and_sums_of_size_8(self):
+        rng = random.Random(192)
+        for p in PRIMES:
+            for table in kinds(rng, p, 8):
+                zeros, total = (0,) * 8, (sum_of(table),) + (0,) * 7
+                self.run_it(exchanges.exchange_holds, table, exchanges.judge_exchange(table))
+                thing = self.run_it(told.judge_diagonal, table, total)
+                self.run_it(told.diagonal_holds, table, total, thing)
+                thing = self.run_it(told.judge_sum, table, total, zeros)
+                self.run_it(told.sum_holds, table, total, zeros, thing)
+                if lost_of(table) == 0:
+                    told_ones = (plain_determinant_of(table),) + (1,) * 7, (1,) * 8
+                    thing = self.run_it(told.judge_factors, table, *told_ones)
+                    self.run_it(told.factors_hold, table, *told_ones, thing)
+                self.run_it(fallers.fallers_hold, table, fallers.judge_fallers(table))
+                if p > 2:
+                    thing = self.run_it(fallers.judge_at_once, table)
+                    self.run_it(fallers.at_once_holds, table, thing)
+            if p > 2:
+                fall = turned_by(companion_of(p, poly_to(p, (0, 1), 8)), free_table(rng, p, 8))
+                self.run_it(fallers.judge_at_once, fall)
+
     def test_long_polynomials_in_certificates(self):
         for p in PRIMES:
             table, other = plain_zero(p, 8), plain_one(p, 8)
@@ -59,9 +83,16 @@ class Time(unittest.TestCase):
         for p in PRIMES:
             table = plain_one(p, 8)
             for thing in (row, ("folds", row), ("bar", row, row), ("flips", row, row), ("poly", row), ("lost", row),
-                          ("alike", (p, (row,) * 1)), ("ranks", row, 1), ("bar", tuple(range(1500)), (0,))):
-                for hold in (flips.two_hold, flips.four_hold):
+                          ("alike", (p, (row,) * 1)), ("ranks", row, 1), ("bar", tuple(range(1500)), (0,)),
+                          ("exchange", row, row), ("sum", row), ("fallers", row, row), ("turned", row), ("number", row),
+                          ("factors", row, row), ("parts", row, row), ("at once", row, row), ("apart", row, 1)):
+                for hold in (flips.two_hold, flips.four_hold, exchanges.exchange_holds, fallers.fallers_hold,
+                             lambda told_table, value: told.diagonal_holds(told_table, (1,) * 8, value),
+                             lambda told_table, value: told.sum_holds(told_table, (1,) * 8, (0,) * 8, value),
+                             lambda told_table, value: told.factors_hold(told_table, (1,) * 8, (1,) * 8, value)):
                     self.assertIs(self.run_it(hold, table, thing), False)
+                if p > 2:
+                    self.assertIs(self.run_it(fallers.at_once_holds, table, thing), False)
                 for hold in (parts.alike_holds, goings.poly_holds):
                     self.assertIs(self.run_it(hold, table, table, thing), False)
                 self.assertIs(self.run_it(folds.folds_hold, table, 3000, thing), False)
