@@ -31,12 +31,16 @@ def poly_power(p, poly, k):
     return found
 
 
+def step_polys(table):
+    """Return the polynomials, powers of prime ones, whose companions stand in the plain form, in their order."""
+    return [poly_power(table[0], poly, step) for poly, steps in parts_of(table) for step in steps]
+
+
 def plain_form(table):
     """Return the table to which a table is alike that has companions along its diagonal."""
     check_table(table)
     p, _ = table
-    powers = [poly_power(p, poly, step) for poly, steps in parts_of(table) for step in steps]
-    return p, rows_along([companion(p, poly)[1] for poly in powers])
+    return p, rows_along([companion(p, poly)[1] for poly in step_polys(table)])
 
 
 def plain_base(table):

@@ -1,11 +1,13 @@
 """What the interface lists: for each function its parameters, and the errors for wrong arguments, in their order."""
 
-from fewfolds import exchanges, fallers, flips, folds, goings, parts, polys, tables, told
+from fewfolds import counts, exchanges, fallers, flips, folds, goings, parts, polys, shears, squares, symmetric
+from fewfolds import tables, told
 from kinds import are_free_rows
 from support import says_fellows, says_integer, says_numbers, says_poly, says_prime, says_size, says_table
 
 NO_TABLE, NO_FELLOW, NO_ROW, NO_NUMBER = "BadTable", "OtherTable", "BadRow", "BadNumber"
-NO_PRIME, NO_POLY, NO_NUMBERS = "BadPrime", "BadPoly", "BadNumbers"
+NO_PRIME, NO_POLY, NO_NUMBERS, NO_WORD = "BadPrime", "BadPoly", "BadNumbers", "BadWord"
+COUNTED = ("tables", "undoable", "folds", "flips", "fallers", "at once", "symmetric")
 
 
 def wrong_table(table):
@@ -103,6 +105,18 @@ def wrong_at_once(table):
     return wrong_table(table) or ((NO_PRIME, 2) if table[0] == 2 else None)
 
 
+def wrong_counted(p, n):
+    return wrong_prime(p) or (None if says_integer(n) and 1 <= n <= 30 else (NO_NUMBER, n))
+
+
+def wrong_count(word, p, n):
+    return (None if type(word) is str and word in COUNTED else (NO_WORD, word)) or wrong_counted(p, n)
+
+
+def wrong_third(p, n, third):
+    return wrong_counted(p, n) or (None if says_integer(third) and 0 <= third <= n else (NO_NUMBER, third))
+
+
 # For each function its parameters, and what it raises first for wrong arguments, if anything.
 FUNCTIONS = {
     tables.is_table: ("thing", lambda thing: None),
@@ -174,6 +188,22 @@ FUNCTIONS = {
     fallers.fallers_hold: ("table thing", lambda table, thing: wrong_table(table)),
     fallers.judge_at_once: ("table", wrong_at_once),
     fallers.at_once_holds: ("table thing", lambda table, thing: wrong_at_once(table)),
+    shears.is_shear: ("table", wrong_table),
+    shears.is_fold_beside_one: ("table", wrong_table),
+    shears.fewest_shears: ("table", wrong_table),
+    shears.judge_shears: ("table", wrong_table),
+    shears.shears_hold: ("table thing", lambda table, thing: wrong_table(table)),
+    squares.is_square: ("table", wrong_table),
+    squares.judge_square: ("table", wrong_table),
+    squares.square_holds: ("table thing", lambda table, thing: wrong_table(table)),
+    squares.odd_order: ("table", wrong_table),
+    symmetric.is_symmetric: ("table", wrong_table),
+    symmetric.symmetric_factors: ("table", wrong_table),
+    symmetric.symmetric_hold: ("table thing", lambda table, thing: wrong_table(table)),
+    symmetric.mirror_turning: ("table", wrong_table),
+    counts.count_of: ("word p n", wrong_count),
+    counts.count_rank: ("p n r", wrong_third),
+    counts.count_free: ("p n k", wrong_third),
 }
 # What the interface lists, beside the files of the first stage.
 LISTED = {
@@ -187,4 +217,8 @@ LISTED = {
     "fewfolds.told": set("""is_number judge_diagonal diagonal_holds judge_factors factors_hold judge_sum
         sum_holds""".split()),
     "fewfolds.fallers": set("is_faller judge_fallers fallers_hold judge_at_once at_once_holds".split()),
+    "fewfolds.shears": set("is_shear is_fold_beside_one fewest_shears judge_shears shears_hold".split()),
+    "fewfolds.squares": set("is_square judge_square square_holds odd_order".split()),
+    "fewfolds.symmetric": set("is_symmetric symmetric_factors symmetric_hold mirror_turning".split()),
+    "fewfolds.counts": set("count_of count_rank count_free".split()),
 }

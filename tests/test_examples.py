@@ -85,6 +85,33 @@ FALLERS = r"""
 >>> judge_at_once((2, ((0,),)))
 raises BadPrime(2)
 """
+SHEARS = r"""
+>>> from fewfolds.shears import fewest_shears, is_fold_beside_one, is_shear, judge_shears, shears_hold
+>>> [is_shear((2, ((1, 1), (0, 1)))), fewest_shears((3, ((2, 0), (0, 2)))), is_fold_beside_one((3, ((2, 0), (0, 2)))), judge_shears((5, ((1, 2), (3, 4)))), judge_shears((2, ((1, 0), (0, 1))))]
+[True, 3, True, ('determinant', 3), ('shears', ())]
+>>> [fewest_shears((2, ((0, 1), (1, 1)))), shears_hold((2, ((0, 1), (1, 1))), ('shears', ((2, ((1, 0), (1, 1))), (2, ((1, 1), (0, 1))))))]
+[2, False]
+"""
+SQUARES = r"""
+>>> from fewfolds.squares import is_square, judge_square, odd_order, square_holds
+>>> A, MINUS, FALL = (5, ((1, 2), (3, 4))), (3, ((2, 0), (0, 2))), (2, ((0, 1), (0, 0)))
+>>> [judge_square(A), judge_square(FALL), is_square(MINUS), square_holds(MINUS, ('root', (3, ((0, 1), (2, 0))))), judge_square((3, ((2,),))), is_square((2, ((1, 1), (0, 1))))]
+[('bar', (3, 0, 1), 0), ('bar', (0, 1), 0), True, True, ('bar', (1, 1), 0), False]
+>>> [odd_order(MINUS), odd_order((3, ((1, 1), (0, 1)))), odd_order((2, ((0, 1), (1, 1)))), odd_order((5, ((0, 0), (0, 1)))), odd_order(FALL)]
+[None, 3, 3, 1, None]
+"""
+SYMMETRIC = r"""
+>>> from fewfolds.symmetric import symmetric_hold, is_symmetric, mirror_turning, symmetric_factors
+>>> [is_symmetric((3, ((1, 2), (2, 0)))), symmetric_hold((2, ((0, 1), (0, 0))), ('symmetric', (2, ((0, 1), (1, 0))), (2, ((0, 0), (0, 1))))), symmetric_factors((7, ((3,),)))[0]]
+[True, True, 'symmetric']
+"""
+COUNTS = r"""
+>>> from fewfolds.counts import count_free, count_of, count_rank
+>>> [[count_of(word, 2, 2) for word in ('tables', 'undoable', 'folds', 'flips', 'fallers', 'at once', 'symmetric')], count_rank(2, 2, 1), count_free(2, 2, 2), count_of('folds', 3, 3), count_of('fallers', 3, 3), count_of('at once', 3, 3)]
+[[16, 6, 8, 4, 4, 4, 8], 9, 6, 236, 729, 105]
+>>> count_of('folds', 4, 2)
+raises BadPrime(4)
+"""
 
 
 def expected_outcome(line, names):
@@ -137,6 +164,18 @@ class Examples(unittest.TestCase):
 
     def test_fallers(self):
         self.assertEqual(run_examples(self, FALLERS), 3)
+
+    def test_shears(self):
+        self.assertEqual(run_examples(self, SHEARS), 2)
+
+    def test_squares(self):
+        self.assertEqual(run_examples(self, SQUARES), 2)
+
+    def test_symmetric(self):
+        self.assertEqual(run_examples(self, SYMMETRIC), 1)
+
+    def test_counts(self):
+        self.assertEqual(run_examples(self, COUNTS), 2)
 
 
 if __name__ == "__main__":

@@ -5,9 +5,11 @@ import random
 import time
 import unittest
 
-from fewfolds import exchanges, fallers, flips, folds, goings, parts, told
-from kinds import companion_of, free_table, kinds, lost_of, plain_determinant_of, poly_to, turned_by
-from support import PRIMES, plain_one, plain_zero
+from fewfolds import counts, exchanges, fallers, flips, folds, goings, parts, shears, squares, symmetric, told
+from kinds import companion_of, diagonal_table, free_table, is_prime_one, kinds, lost_of, plain_determinant_of
+from kinds import poly_to, random_fold, triangle, turned_by
+from product_words import random_shear
+from support import PRIMES, plain_one, plain_product, plain_zero, random_row
 from words import sum_of
 
 # Far more than any call takes, in seconds of the processor.
@@ -16,7 +18,9 @@ MOST = 2
 ONE = [parts.parts_of, parts.plain_form, parts.plain_base, goings.room_of, goings.base_of_room, goings.many_alike,
        folds.is_fold, folds.lost_by, folds.moved_by, folds.lost_rows, folds.still_rows, folds.fewest_folds,
        flips.is_flip, flips.turning_flip, flips.judge_two, flips.judge_four, exchanges.judge_exchange,
-       told.is_number, fallers.is_faller, fallers.judge_fallers]
+       told.is_number, fallers.is_faller, fallers.judge_fallers, shears.is_shear, shears.is_fold_beside_one,
+       shears.fewest_shears, shears.judge_shears, squares.is_square, squares.judge_square, squares.odd_order,
+       symmetric.is_symmetric, symmetric.symmetric_factors, symmetric.mirror_turning]
 TWO = [parts.are_alike, parts.judge_alike, goings.does_go_with, goings.judge_poly, exchanges.exchange]
 
 
@@ -69,6 +73,32 @@ class Time(unittest.TestCase):
                 fall = turned_by(companion_of(p, poly_to(p, (0, 1), 8)), free_table(rng, p, 8))
                 self.run_it(fallers.judge_at_once, fall)
 
+    def test_shears_squares_and_factors_of_size_8(self):
+        rng = random.Random(193)
+        for p in PRIMES:
+            fall = companion_of(p, (0,) * 8 + (1,))
+            special = [random_shear(rng, p, 8), random_fold(rng, p, 8), plain_product(fall, fall),
+                       turned_by(triangle(rng, p, 8, (1,) * 8), free_table(rng, p, 8)),
+                       turned_by(diagonal_table(p, (p - 1,) * 8), free_table(rng, p, 8))]
+            poly = next(poly for poly in iter(lambda: random_row(rng, p, 8) + (1,), None) if is_prime_one(p, poly))
+            special += [companion_of(p, poly), plain_product(companion_of(p, poly), companion_of(p, poly))]
+            for table in special + kinds(rng, p, 8):
+                thing = self.run_it(shears.judge_shears, table)
+                self.run_it(shears.shears_hold, table, thing)
+                for told_table in (table, plain_product(table, table)):
+                    thing = self.run_it(squares.judge_square, told_table)
+                    self.run_it(squares.square_holds, told_table, thing)
+                    self.run_it(squares.odd_order, told_table)
+                self.run_it(symmetric.symmetric_hold, table, self.run_it(symmetric.symmetric_factors, table))
+
+    def test_counts_of_great_sizes(self):
+        for p in PRIMES:
+            for word in ("tables", "undoable", "folds", "flips", "fallers", "at once", "symmetric"):
+                self.run_it(counts.count_of, word, p, 30)
+            for k in (0, 15, 30):
+                self.run_it(counts.count_rank, p, 30, k)
+                self.run_it(counts.count_free, p, 30, k)
+
     def test_long_polynomials_in_certificates(self):
         for p in PRIMES:
             table, other = plain_zero(p, 8), plain_one(p, 8)
@@ -85,8 +115,11 @@ class Time(unittest.TestCase):
             for thing in (row, ("folds", row), ("bar", row, row), ("flips", row, row), ("poly", row), ("lost", row),
                           ("alike", (p, (row,) * 1)), ("ranks", row, 1), ("bar", tuple(range(1500)), (0,)),
                           ("exchange", row, row), ("sum", row), ("fallers", row, row), ("turned", row), ("number", row),
-                          ("factors", row, row), ("parts", row, row), ("at once", row, row), ("apart", row, 1)):
+                          ("factors", row, row), ("parts", row, row), ("at once", row, row), ("apart", row, 1),
+                          ("shears", row), ("root", (p, row)), ("bar", row, 0), ("symmetric", row, row),
+                          ("bar", (0,) * 59 + (1,), 0), ("shears", (table,) * 3000)):
                 for hold in (flips.two_hold, flips.four_hold, exchanges.exchange_holds, fallers.fallers_hold,
+                             shears.shears_hold, squares.square_holds, symmetric.symmetric_hold,
                              lambda told_table, value: told.diagonal_holds(told_table, (1,) * 8, value),
                              lambda told_table, value: told.sum_holds(told_table, (1,) * 8, (0,) * 8, value),
                              lambda told_table, value: told.factors_hold(told_table, (1,) * 8, (1,) * 8, value)):

@@ -8,7 +8,7 @@ import re
 import sys
 import unittest
 
-from fewfolds import folds, parts, polys, tables, told
+from fewfolds import counts, folds, parts, polys, tables, told
 from fewfolds.errors import TableError
 from interface import FUNCTIONS, LISTED
 from kinds import free_table
@@ -25,7 +25,7 @@ VERY_FEW = [True, 2, 5, 9, "5", (), (1,), (0, 1), (0, 1, 0), (True,), [1, 1], (4
 TRIPLES = [-1, 0, 2, 5, HUGE, "alike", (), (0, 1), ((0, 1),), ((1, 1),), ((1, 0), (0, 1)), ((1, 0), (0, 5)),
            ((1,), (1, 0)), [(1, 0)], ((True, 0),), (5, ((1, 2), (3, 4))), (5, ((0, 1), (1, 0))), (5, ((1,),)),
            (2, ((0, 1), (1, 0))), (5, ((1, 2), (3, 5))), [5, ((1, 2), (3, 4))], ("alike", (5, ((1, 0), (0, 1)))),
-           ("ranks", (0, 1), 1), ("poly", (0, 1)), ("folds", ()), ("bar", (0,), (0, 1)), None]
+           ("ranks", (0, 1), 1), ("poly", (0, 1)), ("folds", ()), ("bar", (0,), (0, 1)), "folds", 1, True, 31, None]
 # Fewer ones for those with four parameters.
 FOURS = [None, 5, (), (1, 1), (1, 3), (0, 1), (True, 1), [1, 1], (1, 5), (1, 1, 1), (5, ((1, 2), (3, 4))),
          (5, ((1, 2), (2, 4))), (5, ((2, 0), (0, 2))), (5, [(1, 2), (3, 4)]), ("number", 2), ("determinant", 3)]
@@ -36,6 +36,7 @@ RIGHT = {
     folds.fold_with: (5, ((0, 1),), ((1, 0),)), folds.folds_hold: (A, 2, None), told.diagonal_holds: (A, (0, 0), None),
     told.judge_factors: (A, (1, 1), (1, 3)), told.judge_sum: (A, (1, 1), (1, 3)),
     told.factors_hold: (A, (1, 1), (1, 3), None), told.sum_holds: (A, (1, 1), (1, 3), None),
+    counts.count_of: ("folds", 3, 8), counts.count_rank: (3, 8, 5), counts.count_free: (3, 8, 5),
 }
 
 
@@ -125,7 +126,8 @@ class WrongInputs(unittest.TestCase):
                 right = {"thing": rng.choice((table, poly)), "p": p, "n": n, "table": table, "poly": poly, "k": n,
                          "number": rng.randrange(p), "row": random_row(rng, p, n), "by": random_table(rng, p, n),
                          "stay": rows[:at], "lost": rows[at:], "numbers": random_row(rng, p, n),
-                         "first": random_row(rng, p, n), "second": random_row(rng, p, n)}
+                         "first": random_row(rng, p, n), "second": random_row(rng, p, n), "r": rng.randrange(n + 1),
+                         "word": rng.choice(("folds", "fallers", "at once", "flips", "undoable", "symmetric"))}
                 right["one"], right["other"] = (poly, poly) if names == "p one other" else (table, right["by"])
                 if function is parts.companion:
                     right["poly"] = random_row(rng, p, n) + (1,)
@@ -147,7 +149,7 @@ class WrongInputs(unittest.TestCase):
         table, other = (5, ((1, 2), (3, 4))), (5, ((0, 1), (1, 0)))
         told = {"thing": (1, 1), "p": 5, "n": 3, "table": table, "poly": (3, 0, 1), "k": 3, "number": 2,
                 "row": (1, 3), "by": other, "stay": ((0, 1),), "lost": ((1, 1),), "numbers": (4, 1),
-                "first": (1, 4), "second": (2, 1)}
+                "first": (1, 4), "second": (2, 1), "word": "folds", "r": 2}
         for function, (names, _) in FUNCTIONS.items():
             right = dict(told)
             right["one"], right["other"] = ((1, 1), (4, 1)) if names == "p one other" else (table, other)
